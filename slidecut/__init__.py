@@ -1,0 +1,1 @@
+"""Slidecut: cloths cut into pieces, and slid to lie as other cloths."""

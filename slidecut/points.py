@@ -1,0 +1,87 @@
+"""Points and steps: tuples (a, b, n), a / n to the right and b / n up, in lowest form."""
+
+from slidecut.errors import NoPoint
+from slidecut.ratios import greatest_divisor, ratio
+
+
+def point(a, b, n):
+    """The point of three whole numbers; NoPoint where the third is 0."""
+    if n == 0:
+        raise NoPoint("the third number of a point is not 0")
+    divisor = greatest_divisor(greatest_divisor(n, a), b)
+    # A divisor below 0 turns all signs, so that the third number is from 1 on.
+    if n < 0:
+        divisor = -divisor
+    return (a // divisor, b // divisor, n // divisor)
+
+
+def x_of(p):
+    """How far a point lies to the right, a ratio."""
+    return ratio(p[0], p[2])
+
+
+def y_of(p):
+    """How far a point lies up, a ratio."""
+    return ratio(p[1], p[2])
+
+
+def at(x, y):
+    """The point that lies x to the right and y up, two ratios."""
+    return point(x[0] * y[1], y[0] * x[1], x[1] * y[1])
+
+
+def slid(p, step):
+    """The point slid by a step."""
+    a, b, n = p
+    right, up, parts = step
+    return point(a * parts + right * n, b * parts + up * n, n * parts)
+
+
+def step_to(p, q):
+    """The step by which the point p is slid to the point q."""
+    a, b, n = p
+    c, d, m = q
+    return point(c * n - a * m, d * n - b * m, n * m)
+
+
+def turned(p):
+    """The point turned half round about (0, 0, 1)."""
+    a, b, n = p
+    return (-a, -b, n)
+
+
+def tilted(p, tilt):
+    """The point, higher by the ratio tilt times how far it lies to the right."""
+    a, b, n = p
+    top, bottom = tilt
+    return point(a * bottom, b * bottom + a * top, n * bottom)
+
+
+def crossed(one, other):
+    """The cross product of two triples: of two points their line, of two lines their point.
+
+    A line is a triple whose products with the numbers of each of its points come to 0.
+    """
+    a, b, n = one
+    c, d, m = other
+    return (b * m - n * d, n * c - a * m, a * d - b * c)
+
+
+def side(p, q, r):
+    """At which hand r lies, seen from p to q: 1 at the left, -1 at the right, 0 on the line."""
+    across, along, still = crossed(p, q)
+    # All third numbers are above 0, so this has the sign of the area that p, q, r go round.
+    turn = across * r[0] + along * r[1] + still * r[2]
+    if turn > 0:
+        return 1
+    if turn < 0:
+        return -1
+    return 0
+
+
+def meet(p, q, r, s):
+    """The point in which the line of p and q meets that of r and s; NoPoint where not just one."""
+    a, b, n = crossed(crossed(p, q), crossed(r, s))
+    if n == 0:
+        raise NoPoint("lines of one direction do not meet in just one point")
+    return point(a, b, n)

@@ -1,0 +1,51 @@
+"""Ratios: tuples (top, bottom) of whole numbers in lowest terms, bottom from 1 on."""
+
+from slidecut.errors import NoRatio
+
+
+def greatest_divisor(one, other):
+    """The greatest whole number that divides both, from 0 on; 0 where both are 0."""
+    one = abs(one)
+    other = abs(other)
+    while other != 0:
+        one, other = other, one % other
+    return one
+
+
+def ratio(top, bottom):
+    """The ratio of two whole numbers; NoRatio where the second is 0."""
+    if bottom == 0:
+        raise NoRatio("the bottom of a ratio is not 0")
+    divisor = greatest_divisor(top, bottom)
+    # A divisor below 0 turns both signs, so that the bottom is from 1 on.
+    if bottom < 0:
+        divisor = -divisor
+    return (top // divisor, bottom // divisor)
+
+
+def plus(one, other):
+    """The sum of two ratios."""
+    return ratio(one[0] * other[1] + other[0] * one[1], one[1] * other[1])
+
+
+def minus(one, other):
+    """What is left of one ratio where the other is taken away."""
+    return ratio(one[0] * other[1] - other[0] * one[1], one[1] * other[1])
+
+
+def times(one, other):
+    """The product of two ratios."""
+    return ratio(one[0] * other[0], one[1] * other[1])
+
+
+def over(one, other):
+    """What one ratio is over the other; NoRatio where the other is 0."""
+    if other[0] == 0:
+        raise NoRatio("no ratio is over 0")
+    return ratio(one[0] * other[1], one[1] * other[0])
+
+
+def under(one, other):
+    """Whether one ratio is less than the other."""
+    # Both bottoms are above 0, so they may be multiplied across.
+    return one[0] * other[1] < other[0] * one[1]

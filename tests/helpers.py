@@ -1,0 +1,81 @@
+"""What several tests need: kinds told apart, and numbers of many sizes."""
+
+import random
+import unittest
+from fractions import Fraction
+from math import gcd
+
+MOST = 10 ** 30 - 1
+
+
+def is_whole(value):
+    """Whether this is a whole number; True and False are none."""
+    return type(value) is int
+
+
+def some_whole(rng):
+    """A whole number of one to thirty figures, of either sign, at times 0."""
+    if rng.randrange(8) == 0:
+        return 0
+    most = 10 ** rng.choice((1, 1, 2, 5, 15, 30)) - 1
+    return rng.randint(-most, most)
+
+
+def some_whole_but_0(rng):
+    """A whole number as some_whole tells them, but not 0."""
+    return some_whole(rng) or rng.choice((-1, 1))
+
+
+def numbers(many, seed):
+    """As many sources of numbers, the same ones at each run."""
+    return [random.Random(f"{seed} {k}") for k in range(many)]
+
+
+def written(value):
+    """The ratio, as a tuple, of a Fraction."""
+    return (value.numerator, value.denominator)
+
+
+def placed(x, y):
+    """The point, as a tuple, of two Fractions."""
+    n = x.denominator * y.denominator // gcd(x.denominator, y.denominator)
+    return (int(x * n), int(y * n), n)
+
+
+class KindCase(unittest.TestCase):
+    """A test case in which True is not 1, and a list is no tuple."""
+
+    def assertSame(self, told, due):
+        self.assertIs(type(told), type(due), (told, due))
+        if type(due) is tuple:
+            self.assertEqual(len(told), len(due), (told, due))
+            for one, other in zip(told, due):
+                self.assertSame(one, other)
+        else:
+            self.assertEqual(told, due)
+
+    def assertRatio(self, told):
+        """That this is a ratio: two whole numbers in lowest terms, the second from 1 on."""
+        self.assertIs(type(told), tuple, told)
+        self.assertEqual(len(told), 2, told)
+        self.assertTrue(all(is_whole(k) for k in told), told)
+        self.assertGreaterEqual(told[1], 1, told)
+        self.assertEqual(gcd(*told), 1, told)
+
+    def assertPoint(self, told):
+        """That this is a point: three whole numbers in lowest form, the third from 1 on."""
+        self.assertIs(type(told), tuple, told)
+        self.assertEqual(len(told), 3, told)
+        self.assertTrue(all(is_whole(k) for k in told), told)
+        self.assertGreaterEqual(told[2], 1, told)
+        self.assertEqual(gcd(*told), 1, told)
+
+    def assertRatioIs(self, told, due):
+        """That this is the ratio of a Fraction."""
+        self.assertRatio(told)
+        self.assertSame(told, written(due))
+
+    def assertPointIs(self, told, x, y):
+        """That this is the point of two Fractions."""
+        self.assertPoint(told)
+        self.assertSame(told, placed(Fraction(x), Fraction(y)))
