@@ -54,21 +54,19 @@ class KindCase(unittest.TestCase):
         else:
             self.assertEqual(told, due)
 
-    def assertRatio(self, told):
-        """That this is a ratio: two whole numbers in lowest terms, the second from 1 on."""
+    def assertLowest(self, told, many):
+        """That these are so many whole numbers in lowest form, the last from 1 on."""
         self.assertIs(type(told), tuple, told)
-        self.assertEqual(len(told), 2, told)
+        self.assertEqual(len(told), many, told)
         self.assertTrue(all(is_whole(k) for k in told), told)
-        self.assertGreaterEqual(told[1], 1, told)
+        self.assertGreaterEqual(told[-1], 1, told)
         self.assertEqual(gcd(*told), 1, told)
 
+    def assertRatio(self, told):
+        self.assertLowest(told, 2)
+
     def assertPoint(self, told):
-        """That this is a point: three whole numbers in lowest form, the third from 1 on."""
-        self.assertIs(type(told), tuple, told)
-        self.assertEqual(len(told), 3, told)
-        self.assertTrue(all(is_whole(k) for k in told), told)
-        self.assertGreaterEqual(told[2], 1, told)
-        self.assertEqual(gcd(*told), 1, told)
+        self.assertLowest(told, 3)
 
     def assertRatioIs(self, told, due):
         """That this is the ratio of a Fraction."""
