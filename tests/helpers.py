@@ -2,6 +2,7 @@
 
 import random
 import unittest
+from copy import deepcopy
 from fractions import Fraction
 from math import gcd
 
@@ -42,17 +43,52 @@ def placed(x, y):
     return (int(x * n), int(y * n), n)
 
 
+def flat(p):
+    """How far a point lies to the right and up, as Fractions."""
+    return (Fraction(p[0], p[2]), Fraction(p[1], p[2]))
+
+
+def some_point(rng):
+    """A point of places of one to thirty figures over such bottoms."""
+    return placed(Fraction(some_whole(rng), some_whole_but_0(rng)), Fraction(some_whole(rng), some_whole_but_0(rng)))
+
+
+def spoil(value):
+    """Every list in this is overwritten, those within lists and tuples too."""
+    if isinstance(value, (list, tuple)):
+        for inner in value:
+            spoil(inner)
+    if isinstance(value, list):
+        value[:] = ["spoilt"]
+
+
 class KindCase(unittest.TestCase):
     """A test case in which True is not 1, and a list is no tuple."""
 
     def assertSame(self, told, due):
         self.assertIs(type(told), type(due), (told, due))
-        if type(due) is tuple:
+        if type(due) in (tuple, list):
             self.assertEqual(len(told), len(due), (told, due))
             for one, other in zip(told, due):
                 self.assertSame(one, other)
         else:
             self.assertEqual(told, due)
+
+    def asked(self, deed, *handed):
+        """What a deed tells of these, of which it changes nothing; told lists are new, and kept by nobody."""
+        ahead = deepcopy(handed)
+        told = deed(*handed)
+        self.assertSame(handed, ahead)
+        kept = deepcopy(told)
+        spoil(told)
+        self.assertSame(handed, ahead)
+        again = deed(*handed)
+        self.assertSame(again, kept)
+        handed = deepcopy(handed)
+        told = deed(*handed)
+        spoil(handed)
+        self.assertSame(told, kept)
+        return kept
 
     def assertLowest(self, told, many):
         """That these are so many whole numbers in lowest form, the last from 1 on."""

@@ -6,7 +6,7 @@ from itertools import permutations
 
 from slidecut.errors import NoPoint
 from slidecut.points import at, meet, point, side, slid, step_to, tilted, turned, x_of, y_of
-from tests.helpers import MOST, KindCase, numbers, placed, some_whole, some_whole_but_0, written
+from tests.helpers import MOST, KindCase, flat, numbers, placed, some_point, some_whole, some_whole_but_0, written
 
 ORIGIN = (0, 0, 1)
 SOME = (
@@ -17,16 +17,6 @@ SOME_RATIOS = (
     (0, 1), (1, 1), (-1, 1), (2, 3), (-3, 2), (MOST, 1), (-1, MOST), (MOST - 1, MOST), (1 - MOST, MOST - 2),
     (MOST, MOST - 1),
 )
-
-
-def some_point(rng):
-    """A point that the tests make by themselves, as a tuple."""
-    return placed(Fraction(some_whole(rng), some_whole_but_0(rng)), Fraction(some_whole(rng), some_whole_but_0(rng)))
-
-
-def flat(p):
-    """How far a point lies to the right and up, as Fractions."""
-    return (Fraction(p[0], p[2]), Fraction(p[1], p[2]))
 
 
 def between(p, q, part):
