@@ -67,16 +67,20 @@ def crossed(one, other):
     return (b * m - n * d, n * c - a * m, a * d - b * c)
 
 
-def side(p, q, r):
-    """At which hand r lies, seen from p to q: 1 at the left, -1 at the right, 0 on the line."""
-    across, along, still = crossed(p, q)
-    # All third numbers are above 0, so this has the sign of the area that p, q, r go round.
-    turn = across * r[0] + along * r[1] + still * r[2]
+def hand_of(line, p):
+    """At which hand of a line, crossed of two of its points, p lies: 1 at the left, -1 at the right, 0 on it."""
+    # All third numbers are above 0, so this has the sign of the area that the two points and p go round.
+    turn = line[0] * p[0] + line[1] * p[1] + line[2] * p[2]
     if turn > 0:
         return 1
     if turn < 0:
         return -1
     return 0
+
+
+def side(p, q, r):
+    """At which hand r lies, seen from p to q: 1 at the left, -1 at the right, 0 on the line."""
+    return hand_of(crossed(p, q), r)
 
 
 def meet(p, q, r, s):

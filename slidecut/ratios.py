@@ -2,6 +2,8 @@
 
 from slidecut.errors import NoRatio
 
+NOTHING = (0, 1)
+
 
 def greatest_divisor(one, other):
     """The greatest whole number that divides both, from 0 on; 0 where both are 0."""
@@ -49,3 +51,38 @@ def under(one, other):
     """Whether one ratio is less than the other."""
     # Both bottoms are above 0, so they may be multiplied across.
     return one[0] * other[1] < other[0] * one[1]
+
+
+def against(one):
+    """The ratio with the other sign."""
+    return (-one[0], one[1])
+
+
+def unsigned(one):
+    """The ratio without its sign."""
+    return (abs(one[0]), one[1])
+
+
+def least_whole(one):
+    """The least whole number that is not under a ratio."""
+    return -(-one[0] // one[1])
+
+
+def most_whole(one):
+    """The greatest whole number that a ratio is not under."""
+    return one[0] // one[1]
+
+
+def least_root(one):
+    """The least whole number whose square is not under a ratio."""
+    root = 0
+    while under((root * root, 1), one):
+        root += 1
+    return root
+
+
+def ranks(ratios):
+    """Whole numbers in the order of the ratios, alike just where these are alike."""
+    most = max([bottom for top, bottom in ratios], default=1)
+    # Two unlike ratios differ by 1 over both bottoms at least, so by 1 at least when spread so far.
+    return [top * most * most // bottom for top, bottom in ratios]

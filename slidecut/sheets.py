@@ -4,7 +4,8 @@ A piece first lay so that each point of it, turned half round where turned is Tr
 slid by step, lies where it lies now.
 """
 
-from slidecut.points import meet, side, slid, turned
+from slidecut.points import at, crossed, hand_of, meet, slid, turned
+from slidecut.ratios import times
 
 
 def fresh(ring):
@@ -25,7 +26,8 @@ def first_ring(piece):
 
 def cut_ring(ring, p, q):
     """What of a ring lies at the left and at the right hand, seen from p to q: two rings, [] without an area."""
-    hands = [side(p, q, corner) for corner in ring]
+    line = crossed(p, q)
+    hands = [hand_of(line, corner) for corner in ring]
     left = []
     right = []
     for place, corner in enumerate(ring):
@@ -55,6 +57,22 @@ def cut_sheet(sheet, p, q):
     return (left, right)
 
 
+def cut_upright(sheet, place):
+    """The two sheets of what lies at the left and at the right of a place from left to right, a ratio."""
+    return cut_sheet(sheet, at(place, (0, 1)), at(place, (1, 1)))
+
+
+def cut_level(sheet, height):
+    """The two sheets of what lies below a height, a ratio, and above it."""
+    above, below = cut_sheet(sheet, at((0, 1), height), at((1, 1), height))
+    return (below, above)
+
+
+def copied(sheet):
+    """The sheet as it is, in lists of its own."""
+    return [(list(ring), is_turned, step) for ring, is_turned, step in sheet]
+
+
 def moved(sheet, step):
     """The sheet, each piece further on by a step."""
     return [
@@ -69,3 +87,29 @@ def half_turned(sheet):
         ([turned(corner) for corner in ring], not is_turned, turned(step))
         for ring, is_turned, step in sheet
     ]
+
+
+def columns_of(sheet, wide, many):
+    """So many sheets of one width, from the left on, and one of what is left, each moved to where the first lies.
+
+    The sheet has nothing at the left of (0, 0, 1).
+    """
+    columns = []
+    for place in range(many):
+        left, sheet = cut_upright(sheet, times(wide, (place + 1, 1)))
+        columns.append(moved(left, at(times(wide, (-place, 1)), (0, 1))))
+    columns.append(moved(sheet, at(times(wide, (-many, 1)), (0, 1))))
+    return columns
+
+
+def layers_of(sheet, high, many):
+    """So many sheets of one height, from below on, and one of what is left, each moved to where the first lies.
+
+    The sheet has nothing below (0, 0, 1).
+    """
+    layers = []
+    for place in range(many):
+        below, sheet = cut_level(sheet, times(high, (place + 1, 1)))
+        layers.append(moved(below, at((0, 1), times(high, (-place, 1)))))
+    layers.append(moved(sheet, at((0, 1), times(high, (-many, 1)))))
+    return layers

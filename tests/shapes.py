@@ -255,3 +255,20 @@ def some_bulge(rng, figures=1):
 def from_least(ring):
     """The ring told from its least corner on, so that rings alike are the same list."""
     return from_corner(ring, ring.index(min(ring)))
+
+
+def plain_box(wide, high):
+    """The ring of a box of a width and a height, from (0, 0) on."""
+    return box(0, 0, wide, high)
+
+
+def plain_corner(slope, hand, wide):
+    """The ring of a corner piece, of Fractions."""
+    high = wide * abs(slope)
+    corners = {
+        (True, "low"): ((0, 0), (wide, 0), (wide, high)),
+        (True, "high"): ((0, 0), (wide, high), (0, high)),
+        (False, "low"): ((0, 0), (wide, 0), (0, high)),
+        (False, "high"): ((0, high), (wide, 0), (wide, high)),
+    }
+    return ring_of(*corners[slope > 0, hand])

@@ -4,76 +4,22 @@ import unittest
 from fractions import Fraction
 
 from slidecut.sheets import cut_sheet, first_ring, fresh, half_turned, moved
-from tests.helpers import MOST, KindCase, flat, numbers, some_point
-from tests.shapes import (
-    box, corner, from_least, plain_area, plain_sides, ring_of, slid_by, some_bulge, turn, turned_round, wedge,
+from tests.helpers import MOST, flat, numbers, some_point
+from tests.laying import (
+    LOZENGE, STAYS, SheetCase, cut_in_two, plain_first, plain_parts, rings_in, some_piece, some_sheet,
 )
-
-STAYS = (0, 0, 1)
-LOZENGE = ring_of((2, 0), (4, 2), (2, 4), (0, 2))
-
-
-def some_piece(rng, figures=1):
-    """A piece that lies somewhere, turned or not, and came by some step."""
-    step = some_point(rng) if figures == 30 else corner(rng.randint(-9, 9), Fraction(rng.randint(-9, 9), 4))
-    return (some_bulge(rng, figures), bool(rng.randrange(2)), step)
-
-
-def some_sheet(rng, figures=1):
-    return [some_piece(rng, figures) for k in range(rng.randrange(6))]
-
-
-def plain_first(piece):
-    """Where a piece first lay."""
-    ring, is_turned, step = piece
-    right, up = flat(step)
-    first = slid_by([ring], -right, -up)
-    return (turned_round(first) if is_turned else first)[0]
+from tests.shapes import box, corner, from_least, plain_area, ring_of, slid_by, some_bulge, turned_round, wedge
 
 
 def plain_part(ring, p, q):
     """What of a ring lies at the left hand, seen from p to q, from its least corner on; None without an area."""
-    (x, y), (u, v) = flat(p), flat(q)
-    part = []
-    for one, other in plain_sides(ring):
-        ahead, after = (turn((s - x, t - y), (u - x, v - y)) for s, t in (one, other))
-        if ahead >= 0:
-            part.append(one)
-        if ahead * after < 0:
-            share = ahead / (ahead - after)
-            part.append((one[0] + (other[0] - one[0]) * share, one[1] + (other[1] - one[1]) * share))
-    if len(part) < 3 or plain_area([ring_of(*part)]) == 0:
-        return None
-    return from_least(ring_of(*part))
-
-
-def rings_in(sheet):
-    """The rings where the pieces of a sheet lie now."""
-    return [piece[0] for piece in sheet]
+    part = cut_in_two(ring, p, q)[0]
+    return part and from_least(part)
 
 
 def from_least_each(sheet):
     """The sheet, each ring from its least corner on."""
     return [(from_least(ring), is_turned, step) for ring, is_turned, step in sheet]
-
-
-class SheetCase(KindCase):
-    def assertPiece(self, piece):
-        """That this is a piece: its ring goes once round, each corner at the left hand of each side but its own."""
-        self.assertIs(type(piece), tuple)
-        ring, is_turned, step = piece
-        self.assertIs(type(ring), list)
-        self.assertIn(is_turned, (True, False))
-        self.assertIs(type(is_turned), bool)
-        self.assertPoint(step)
-        self.assertGreaterEqual(len(ring), 3)
-        for p in ring:
-            self.assertPoint(p)
-        spots = [flat(p) for p in ring]
-        for (x, y), (u, v) in plain_sides(ring):
-            for s, t in spots:
-                if (s, t) not in ((x, y), (u, v)):
-                    self.assertGreater(turn((s - x, t - y), (u - x, v - y)), 0, ring)
 
 
 class Fresh(SheetCase):
@@ -254,18 +200,8 @@ class CutSheet(SheetCase):
                     self.assertSame(first_ring(piece), plain_first(piece))
                 firsts = [first_ring(piece) for piece in pieces]
                 self.assertEqual(plain_area(firsts), plain_area([ring]))
-                # None of them lies on another one: each has its midst to itself.
-                for first in firsts:
-                    (x, y), (u, v), (s, t) = (flat(p) for p in first[:3])
-                    midst = corner((x + u + s) / 3, (y + v + t) / 3)
-                    self.assertEqual(sum(holds(other, midst) for other in firsts), 1)
-                    self.assertTrue(holds(ring, midst))
-
-
-def holds(ring, p):
-    """Whether a ring that bulges nowhere inward holds a point, its sides not counted."""
-    s, t = flat(p)
-    return all(turn((s - x, t - y), (u - x, v - y)) > 0 for (x, y), (u, v) in plain_sides(ring))
+                self.assertTrue(plain_parts(firsts, [ring]))
+                self.assertEachAlone(firsts, ring)
 
 
 class Moved(SheetCase):
