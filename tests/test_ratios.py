@@ -2,9 +2,12 @@
 
 import unittest
 from fractions import Fraction
+from math import ceil, floor
 
 from slidecut.errors import NoRatio
-from slidecut.ratios import minus, over, plus, ratio, times, under
+from slidecut.ratios import (
+    against, least_root, least_whole, minus, most_whole, over, plus, ranks, ratio, times, under, unsigned,
+)
 from tests.helpers import MOST, KindCase, numbers, some_whole, some_whole_but_0, written
 
 # The greatest two numbers of thirty figures have none above 1 in common.
@@ -173,6 +176,35 @@ class Under(KindCase):
                 self.check(one, other)
         for rng in numbers(400, "under"):
             self.check(some_ratio(rng), some_ratio(rng))
+
+
+class Helped(KindCase):
+    """What other modules reckon with."""
+
+    def test_signs(self):
+        for one in SOME:
+            self.assertSame(against(one), written(-Fraction(*one)))
+            self.assertSame(unsigned(one), written(abs(Fraction(*one))))
+
+    def test_whole_numbers(self):
+        for one in SOME:
+            value = Fraction(*one)
+            self.assertSame(least_whole(one), ceil(value))
+            self.assertSame(most_whole(one), floor(value))
+        for value in [Fraction(k, 7) for k in range(1, 200)]:
+            root = least_root(written(value))
+            self.assertTrue((root - 1) ** 2 < value <= root ** 2)
+
+    def test_ranks(self):
+        self.assertSame(ranks([]), [])
+        for rng in numbers(60, "ranks"):
+            some = [some_ratio(rng) for k in range(rng.randint(1, 9))] + [rng.choice(SOME), (1, 2), (1, 3)]
+            some += [(MOST - 2, MOST - 1), (MOST - 1, MOST), (1, MOST), (1, MOST - 1)] + some[:2]
+            told = ranks(some)
+            for one, rank in zip(some, told):
+                for other, other_rank in zip(some, told):
+                    self.assertEqual(rank < other_rank, Fraction(*one) < Fraction(*other))
+                    self.assertEqual(rank == other_rank, one == other)
 
 
 if __name__ == "__main__":
