@@ -1,9 +1,8 @@
 """Plans checked by their sides alone, joined, and led back."""
 
-from slidecut.cloths import ring_area, sides_of
+from slidecut.cloths import sides_of
 from slidecut.overlays import laid_over
-from slidecut.points import crossed, slid, turned
-from slidecut.ratios import greatest_divisor
+from slidecut.points import crossed, hand_of, side, slid, turned
 
 
 def led_point(p, is_turned, step):
@@ -19,39 +18,45 @@ def led_ring(move):
     return [led_point(corner, is_turned, step) for corner in ring]
 
 
-def line_of(p, q):
-    """The line through two points, a triple that is the same for any two points of it."""
-    a, b, c = crossed(p, q)
-    divisor = greatest_divisor(greatest_divisor(a, b), c)
-    # Seen the other way, all three numbers have the other sign.
-    if a < 0 or (a == 0 and b < 0):
-        divisor = -divisor
-    return (a // divisor, b // divisor, c // divisor)
-
-
-def count_sides(counts, rings, share):
-    """Each side of some rings is counted in: by its line, share where it begins, against that where it ends."""
+def note_sides(ends, rings, share):
+    """Each side of some rings is noted at both its ends: where it leads to, and share; against share where it ends."""
     for ring in rings:
         for p, q in sides_of(ring):
-            line = line_of(p, q)
-            counts[(line, p)] = counts.get((line, p), 0) + share
-            counts[(line, q)] = counts.get((line, q), 0) - share
+            ends.setdefault(p, []).append((q, share))
+            ends.setdefault(q, []).append((p, -share))
+
+
+def is_even(p, ends):
+    """Whether on each line through a point the shares of the sides that begin or end there come to 0."""
+    while ends:
+        line = crossed(p, ends[0][0])
+        total = 0
+        others = []
+        for q, share in ends:
+            if hand_of(line, q) == 0:
+                total += share
+            else:
+                others.append((q, share))
+        if total != 0:
+            return False
+        ends = others
+    return True
 
 
 def part(rings, cloth):
     """Whether rings that have an area above 0 each part a cloth, none on another."""
-    counts = {}
-    count_sides(counts, rings, 1)
-    count_sides(counts, cloth, -1)
-    for count in counts.values():
-        if count != 0:
+    ends = {}
+    note_sides(ends, rings, 1)
+    note_sides(ends, cloth, -1)
+    for p, some in ends.items():
+        if not is_even(p, some):
             return False
     return True
 
 
 def is_triangle(ring):
     """Whether a list of points is a ring of three corners with its inside, which has an area, at the left hand."""
-    return len(ring) == 3 and ring_area(ring)[0] > 0
+    return len(ring) == 3 and side(ring[0], ring[1], ring[2]) == 1
 
 
 def is_plan(one, other, moves, turning):

@@ -27,21 +27,26 @@ def y_of(p):
 
 def at(x, y):
     """The point that lies x to the right and y up, two ratios."""
-    return point(x[0] * y[1], y[0] * x[1], x[1] * y[1])
+    shared = greatest_divisor(x[1], y[1])
+    # Over the least number that both bottoms divide, ratios in lowest terms make a point in lowest form.
+    return (x[0] * (y[1] // shared), y[0] * (x[1] // shared), x[1] // shared * y[1])
 
 
 def slid(p, step):
     """The point slid by a step."""
     a, b, n = p
     right, up, parts = step
-    return point(a * parts + right * n, b * parts + up * n, n * parts)
+    shared = greatest_divisor(n, parts)
+    x = a * (parts // shared) + right * (n // shared)
+    y = b * (parts // shared) + up * (n // shared)
+    # A number that divides these and the new third number divides what both third numbers have in common.
+    divisor = greatest_divisor(greatest_divisor(shared, x), y)
+    return (x // divisor, y // divisor, n // shared * (parts // divisor))
 
 
 def step_to(p, q):
     """The step by which the point p is slid to the point q."""
-    a, b, n = p
-    c, d, m = q
-    return point(c * n - a * m, d * n - b * m, n * m)
+    return slid(q, turned(p))
 
 
 def turned(p):

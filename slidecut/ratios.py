@@ -27,24 +27,34 @@ def ratio(top, bottom):
 
 def plus(one, other):
     """The sum of two ratios."""
-    return ratio(one[0] * other[1] + other[0] * one[1], one[1] * other[1])
+    # Numbers may have thousands of figures: divisors are sought of the lesser numbers of which they are made.
+    shared = greatest_divisor(one[1], other[1])
+    top = one[0] * (other[1] // shared) + other[0] * (one[1] // shared)
+    # A number that divides the sum's top and its bottom divides what both bottoms have in common.
+    divisor = greatest_divisor(shared, top)
+    return (top // divisor, one[1] // shared * (other[1] // divisor))
 
 
 def minus(one, other):
     """What is left of one ratio where the other is taken away."""
-    return ratio(one[0] * other[1] - other[0] * one[1], one[1] * other[1])
+    return plus(one, against(other))
 
 
 def times(one, other):
     """The product of two ratios."""
-    return ratio(one[0] * other[0], one[1] * other[1])
+    # Each ratio is in lowest terms, so only the one's top and the other's bottom have a divisor in common.
+    first = greatest_divisor(one[0], other[1])
+    second = greatest_divisor(other[0], one[1])
+    return (one[0] // first * (other[0] // second), one[1] // second * (other[1] // first))
 
 
 def over(one, other):
     """What one ratio is over the other; NoRatio where the other is 0."""
     if other[0] == 0:
         raise NoRatio("no ratio is over 0")
-    return ratio(one[0] * other[1], one[1] * other[0])
+    if other[0] < 0:
+        return times(one, (-other[1], -other[0]))
+    return times(one, (other[1], other[0]))
 
 
 def under(one, other):
