@@ -29,32 +29,40 @@ def moves_of(ring, piece, other):
     ]
 
 
-def finest(sheets):
-    """The greatest third number of all corners of some sheets, 1 where there are none."""
-    return max([corner[2] for sheet in sheets for ring, is_turned, step in sheet for corner in ring], default=1)
+def scale_of(sheets):
+    """A whole number by which the places of all corners of some sheets are spread, so that unlike ones stay unlike."""
+    most = max([corner[2] for sheet in sheets for ring, is_turned, step in sheet for corner in ring])
+    # Two unlike places differ by 1 over both third numbers at least, so by 1 at least when spread so far.
+    return most * most
 
 
 def reach_of(piece, scale):
-    """A tuple (low, high, left, right, piece), whole numbers in the order of the places, spread by scale."""
+    """A tuple (low, high, left, right, piece), whole numbers in the order of the places."""
     heights = [b * scale // n for a, b, n in piece[0]]
     places = [a * scale // n for a, b, n in piece[0]]
     return (min(heights), max(heights), min(places), max(places), piece)
 
 
-def reaches(sheet, scale):
-    """How far each piece of a sheet reaches, from below up."""
-    return sorted([reach_of(piece, scale) for piece in sheet], key=lambda reach: reach[0])
+def is_crowded(reaches):
+    """Whether at a height more pieces lie, all in all, than at a place from left to right."""
+    heights = sum([reach[1] - reach[0] for reach in reaches])
+    widths = sum([reach[3] - reach[2] for reach in reaches])
+    height = max([reach[1] for reach in reaches]) - min([reach[0] for reach in reaches])
+    width = max([reach[3] for reach in reaches]) - min([reach[2] for reach in reaches])
+    return heights * width > widths * height
 
 
-def facing(sheet, other):
-    """Tuples of a piece of the one and a piece of the other sheet that may have an area in common."""
-    most = finest([sheet, other])
-    # Two unlike places differ by 1 over both third numbers at least, so by 1 at least when spread so far.
-    scale = most * most
-    waiting = reaches(other, scale)[::-1]
+def seen_aside(reaches):
+    """The reaches, with the places from left to right ahead of the heights."""
+    return [(left, right, low, high, piece) for low, high, left, right, piece in reaches]
+
+
+def met(reaches, others):
+    """Tuples of two pieces, one of each list, whose reaches have more than a line in common."""
+    waiting = sorted(others, key=lambda reach: -reach[0])
     near = []
     told = []
-    for low, high, left, right, piece in reaches(sheet, scale):
+    for low, high, left, right, piece in sorted(reaches, key=lambda reach: reach[0]):
         # Later pieces begin no lower, so that what ends below this one meets none of them.
         near = [reach for reach in near if reach[1] > low]
         while waiting and waiting[-1][0] < high:
@@ -63,6 +71,18 @@ def facing(sheet, other):
             if other_low < high and low < other_high and other_left < right and left < other_right:
                 told.append((piece, other_piece))
     return told
+
+
+def facing(sheet, other):
+    """Tuples of a piece of the one and a piece of the other sheet that may have an area in common."""
+    if not sheet or not other:
+        return []
+    scale = scale_of([sheet, other])
+    reaches = [reach_of(piece, scale) for piece in sheet]
+    others = [reach_of(piece, scale) for piece in other]
+    if is_crowded(reaches + others):
+        return met(seen_aside(reaches), seen_aside(others))
+    return met(reaches, others)
 
 
 def laid_over(sheet, other):

@@ -89,17 +89,25 @@ def half_turned(sheet):
     ]
 
 
+def slices(sheet, cut, size, first, last):
+    """The parts of a sheet from first times a size on, up to last times it, by a deed that cuts it in two."""
+    if last - first == 1:
+        return [sheet]
+    # Each half is cut by itself, so that no piece is tried against each line.
+    middle = (first + last) // 2
+    one, other = cut(sheet, times(size, (middle, 1)))
+    return slices(one, cut, size, first, middle) + slices(other, cut, size, middle, last)
+
+
 def columns_of(sheet, wide, many):
     """So many sheets of one width, from the left on, and one of what is left, each moved to where the first lies.
 
     The sheet has nothing at the left of (0, 0, 1).
     """
-    columns = []
-    for place in range(many):
-        left, sheet = cut_upright(sheet, times(wide, (place + 1, 1)))
-        columns.append(moved(left, at(times(wide, (-place, 1)), (0, 1))))
-    columns.append(moved(sheet, at(times(wide, (-many, 1)), (0, 1))))
-    return columns
+    return [
+        moved(part, at(times(wide, (-place, 1)), (0, 1)))
+        for place, part in enumerate(slices(sheet, cut_upright, wide, 0, many + 1))
+    ]
 
 
 def layers_of(sheet, high, many):
@@ -107,9 +115,7 @@ def layers_of(sheet, high, many):
 
     The sheet has nothing below (0, 0, 1).
     """
-    layers = []
-    for place in range(many):
-        below, sheet = cut_level(sheet, times(high, (place + 1, 1)))
-        layers.append(moved(below, at((0, 1), times(high, (-place, 1)))))
-    layers.append(moved(sheet, at((0, 1), times(high, (-many, 1)))))
-    return layers
+    return [
+        moved(part, at((0, 1), times(high, (-place, 1))))
+        for place, part in enumerate(slices(sheet, cut_level, high, 0, many + 1))
+    ]

@@ -7,7 +7,8 @@ from slidecut.ratios import ratio
 
 FIGURES = "0123456789"
 MOST_FIGURES = 30
-MANY_FIGURES = 64
+GREAT_FIGURES = 64
+GREAT = 10 ** 64
 NO_RINGS = "none"
 
 
@@ -16,9 +17,9 @@ def show_whole(number):
     # Python itself writes no number of more than some thousand figures, so it is written part by part.
     parts = []
     rest = abs(number)
-    while rest >= 10 ** 64:
-        rest, part = divmod(rest, 10 ** 64)
-        parts.append(str(part).zfill(MANY_FIGURES))
+    while rest >= GREAT:
+        rest, part = divmod(rest, GREAT)
+        parts.append(str(part).zfill(GREAT_FIGURES))
     parts.append(str(rest))
     return ("-" if number < 0 else "") + "".join(parts[::-1])
 

@@ -11,7 +11,8 @@ from tests.planning import (
     FLAT_LEANING_BOX, LEANING_BOX, SIX_SIDED, STAIRS, PlanCase, apart, box_of_area, cut_apart,
 )
 from tests.shapes import (
-    CLOTHS, back, box, plain_area, ring_of, slid_by, some_cloth, spread, tilted_by, turned_round, wedge,
+    CLOTHS, back, box, plain_area, ring_of, slid_by, some_bulge, some_cloth, spread, star, tilted_by, turned_round,
+    wedge,
 )
 
 
@@ -131,6 +132,13 @@ class Plan(PlanCase):
     def test_turned_half_round(self):
         for name, rng in zip(sorted(CLOTHS), numbers(len(CLOTHS), "turned")):
             self.check(CLOTHS[name], turned_round(CLOTHS[name]), True, rng)
+
+    def test_with_itself_turned_half_round_beside_it(self):
+        # All marks of these are 0, so that they slide to a box.
+        for rng in numbers(8, "beside"):
+            ring = some_bulge(rng) if rng.randrange(2) else star(rng, rng.randint(4, 9))
+            one = apart(rng, [ring] + turned_round([ring]))
+            self.check_great(one, box_of_area(plain_area(one), rng.choice((1, 3))), False)
 
     def test_tilted(self):
         for name in ("bent", "frame", "island", "arrow", "fine"):
