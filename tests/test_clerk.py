@@ -1,7 +1,6 @@
 """Points 25 and 26: the clerk's rows, and which refusal is due first."""
 
 import unittest
-from fractions import Fraction
 
 from slidecut.clerk import Clerk
 from slidecut.checks import is_plan

@@ -28,6 +28,13 @@ OUT = (
     ast.With, ast.Global, ast.Nonlocal, ast.Yield, ast.YieldFrom, ast.Await, ast.AsyncFunctionDef, ast.AsyncFor,
     ast.AsyncWith, ast.GeneratorExp, ast.NamedExpr, ast.Import, ast.Match, ast.Div, ast.MatMult,
 )
+# Of the methods of Python's own values these may be called.
+CALLED = set(
+    "append clear copy count endswith extend find get index insert isalnum isalpha isdigit islower isspace isupper"
+    " items join keys ljust lower lstrip partition pop remove replace reverse rfind rjust rpartition rsplit rstrip"
+    " setdefault split splitlines startswith strip update upper values zfill bit_length".split()
+)
+CHANGES = set("append clear extend insert pop remove reverse setdefault update".split())
 METHODS = ("__init__", "__eq__", "__repr__", "__str__", "__len__")
 
 
@@ -132,6 +139,46 @@ class Language(unittest.TestCase):
                     if isinstance(node, ast.Name) and isinstance(node.ctx, ast.Store) or isinstance(node, ast.arg):
                         name = node.id if isinstance(node, ast.Name) else node.arg
                         self.assertNotIn(name, own)
+
+    def test_methods_and_values(self):
+        trees = {path: parsed(path)[1] for path in FILES}
+        given = {"methods": set(), "values": set()}
+        for tree in trees.values():
+            for node in ast.walk(tree):
+                if isinstance(node, ast.ClassDef):
+                    given["methods"] |= {inner.name for inner in node.body if isinstance(inner, ast.FunctionDef)}
+                if isinstance(node, ast.Attribute) and isinstance(node.ctx, ast.Store):
+                    given["values"].add(node.attr)
+        self.assertEqual(given["methods"] & given["values"], set())
+        self.assertEqual((given["methods"] | given["values"]) & CALLED, set())
+        for path, tree in trees.items():
+            with self.subTest(path.name):
+                for node in ast.walk(tree):
+                    if isinstance(node, ast.Attribute):
+                        self.assertIn(node.attr, CALLED | given["methods"] | given["values"])
+
+    def test_nothing_drawn_is_given_anew(self):
+        for path in FILES:
+            text, tree = parsed(path)
+            with self.subTest(path.name):
+                names = {name for module, some, level in drawn(tree) for name in some}
+                for node in ast.walk(tree):
+                    if isinstance(node, ast.Name) and isinstance(node.ctx, ast.Store):
+                        self.assertNotIn(node.id, names)
+                    if isinstance(node, ast.arg):
+                        self.assertNotIn(node.arg, names)
+
+    def test_what_a_loop_walks_is_not_changed_in_it(self):
+        for path in FILES:
+            text, tree = parsed(path)
+            with self.subTest(path.name):
+                for node in ast.walk(tree):
+                    if isinstance(node, ast.For):
+                        walked = {inner.id for inner in ast.walk(node.iter) if isinstance(inner, ast.Name)}
+                        for inner in ast.walk(node):
+                            if isinstance(inner, ast.Call) and isinstance(inner.func, ast.Attribute):
+                                if inner.func.attr in CHANGES and isinstance(inner.func.value, ast.Name):
+                                    self.assertNotIn(inner.func.value.id, walked)
 
     def test_draws(self):
         sources = {}
